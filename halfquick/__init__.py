@@ -1,0 +1,1 @@
+"""Quicksorts that do not go on everywhere, and what they do."""

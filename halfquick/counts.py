@@ -132,6 +132,7 @@ class Origins:
 
 
 def _cuts_of(row):
+    """The places whose value is greater than all before it and not greater than any behind it."""
     return [
         place for place, value in enumerate(row)
         if max(row[:place], default=value - 1) < value == min(row[place:])

@@ -1,4 +1,4 @@
-"""What a plan does to a list: what it leaves, its pivots, and the pairs that it leaves open."""
+"""What a plan does to a list: what it leaves, its pivots, and the pairs that it does not put in order."""
 
 from halfquick.common import check_passes, check_place, check_plan, check_values, first_entry
 

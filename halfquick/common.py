@@ -1,10 +1,13 @@
-"""What several modules need: the checks of arguments, and where rows of steps begin."""
+"""What several modules need: the checks of arguments, where rows of steps stop, and how many orders come out sorted."""
+
+from math import comb
 
 from halfquick.errors import InvalidNumber, InvalidPasses, InvalidPlace, InvalidPlan, InvalidValues
 
 MOST_PLACES = 12
 MOST_VALUES = 60
 MOST_PASSES = 60
+MOST_SIZE = 60
 
 
 def is_whole(thing):
@@ -69,3 +72,43 @@ def check_number(number, limit):
 def first_entry(plan):
     """What rows of steps begin at, as if it were an entry: the empty row stops in the plan without places."""
     return 0 if plan else None
+
+
+def steps_until_stop(plan, steps):
+    """The number of steps of that beginning of a row that stops in a plan, or None if none does."""
+    entry = first_entry(plan)
+    for taken, step in enumerate(steps):
+        if entry is None:
+            return taken
+        left, right = plan[entry]
+        entry = left if step == "l" else right
+    return len(steps) if entry is None else None
+
+
+def right_steps(plan):
+    """The number of steps r after which the row of them stops, or None if no such row does."""
+    # A longer row of steps r comes to no place that this one has not come to.
+    return steps_until_stop(plan, "r" * len(plan))
+
+
+def number_of_sorted_orders(plan, size):
+    """The number of orders of so many different values that come out sorted, also by a plan of many places."""
+    table = [[1] for _ in plan]
+    for more in range(1, size + 1):
+        for place, (left, right) in enumerate(plan):
+            table[place].append(_sum_over_parts(table, left, right, more))
+    return _sorted_orders(table, first_entry(plan), size)
+
+
+def _sorted_orders(table, entry, size):
+    return 1 if entry is None else table[entry][size]
+
+
+def _sum_over_parts(table, left, right, size):
+    """The number of orders that come out sorted by a place, from the numbers of all smaller sizes."""
+    others = size - 1
+    total = 0
+    for lower in range(size):
+        both = _sorted_orders(table, left, lower) * _sorted_orders(table, right, others - lower)
+        total += comb(others, lower) * both
+    return total

@@ -3,11 +3,12 @@
 from itertools import combinations
 from math import comb, factorial
 
-from halfquick.common import check_number, check_plan, check_values, first_entry
+from halfquick.common import (
+    MOST_SIZE, check_number, check_plan, check_values, first_entry, number_of_sorted_orders, right_steps,
+)
 from halfquick.errors import TooMany
 
 MOST_INPUTS = 5000
-MOST_SIZE = 60
 MOST_SPLIT_SIZE = 20
 
 
@@ -40,18 +41,14 @@ def count_sorted(plan, size):
     """The number of orders of so many different values that come out sorted."""
     check_plan(plan)
     check_number(size, MOST_SIZE)
-    table = [[1] for _ in plan]
-    for more in range(1, size + 1):
-        for place, (left, right) in enumerate(plan):
-            table[place].append(_sum_over_parts(table, left, right, more))
-    return _sorted_orders(table, first_entry(plan), size)
+    return number_of_sorted_orders(plan, size)
 
 
 def count_staying(plan, size):
     """The number of orders of so many different values that stay as they are."""
     check_plan(plan)
     check_number(size, MOST_SIZE)
-    steps = _right_steps(plan)
+    steps = right_steps(plan)
     if steps is None or size < steps:
         return 1
     return factorial(size - steps)
@@ -148,30 +145,6 @@ def _merged(lower, upper):
             row.insert(place, value)
         found.append(row)
     return found
-
-
-def _sorted_orders(table, entry, size):
-    return 1 if entry is None else table[entry][size]
-
-
-def _sum_over_parts(table, left, right, size):
-    """The number of orders that come out sorted by a place, from the numbers of all smaller sizes."""
-    others = size - 1
-    total = 0
-    for lower in range(size):
-        both = _sorted_orders(table, left, lower) * _sorted_orders(table, right, others - lower)
-        total += comb(others, lower) * both
-    return total
-
-
-def _right_steps(plan):
-    """The number of steps r after which the row of them stops, or None if no such row does."""
-    entry = first_entry(plan)
-    for steps in range(len(plan) + 1):
-        if entry is None:
-            return steps
-        entry = plan[entry][1]
-    return None
 
 
 def _orders_with_splits(table, size, splits):

@@ -1,6 +1,6 @@
 """What a plan does to a list: what it leaves, its pivots, and the pairs that it does not put in order."""
 
-from halfquick.common import check_passes, check_place, check_plan, check_values, first_entry
+from halfquick.common import check_passes, check_place, check_plan, check_values, first_entry, steps_until_stop
 
 
 def carried_out(plan, values, *, passes=1):
@@ -54,6 +54,11 @@ def left_open(plan, values):
 def needed_pivots(values):
     """The places of the pivots without which a list does not come out sorted."""
     check_values(values)
+    return needed_places(values)
+
+
+def needed_places(values):
+    """The same as needed_pivots, for what is known to be a list of values."""
     words = [_word(values, place) for place in range(len(values))]
     needed_words = [words[place] for place in _firsts_before_next_smaller(values)]
     return [place for place, word in enumerate(words) if _begins_one_of(word, needed_words)]
@@ -101,19 +106,8 @@ def _word(values, place):
     return word
 
 
-def _goes_on(plan, word):
-    """Whether no beginning of a row of steps stops in a plan, the whole row included."""
-    entry = first_entry(plan)
-    for step in word:
-        if entry is None:
-            return False
-        left, right = plan[entry]
-        entry = left if step == "l" else right
-    return entry is not None
-
-
 def _pivot_places(plan, values):
-    return [place for place in range(len(values)) if _goes_on(plan, _word(values, place))]
+    return [place for place in range(len(values)) if steps_until_stop(plan, _word(values, place)) is None]
 
 
 def _falling_pairs(values):

@@ -3,6 +3,7 @@
 Nothing here uses the package, and nothing here is clever: lists are sorted in fact, and orders are tried one by one.
 """
 
+from functools import cache
 from itertools import permutations, product
 
 WHOLE = [(0, 0)]
@@ -32,7 +33,10 @@ LARGER_PLANS = [
     TWELVE_LEVELS,
     TWELVE_IN_A_RING,
 ]
-PLANS = plans_of(0) + plans_of(1) + plans_of(2) + LARGER_PLANS
+SMALL_PLANS = plans_of(0) + plans_of(1) + plans_of(2)
+PLANS = SMALL_PLANS + LARGER_PLANS
+# Orders of this size tell of two small plans all that their rows do.
+ENOUGH = 6
 
 
 def lists_over(numbers, most):
@@ -43,6 +47,26 @@ def lists_over(numbers, most):
 def orders(size):
     """All orders of the numbers from 0 on."""
     return [list(row) for row in permutations(range(size))]
+
+
+def passed(plan, values):
+    """What one pass of a plan leaves of a list."""
+    return Pass(plan, values).result
+
+
+@cache
+def outcomes_of(pairs, size):
+    return [passed(list(pairs), row) for row in orders(size)]
+
+
+def outcomes(plan, size):
+    """What a plan leaves of each order of the numbers from 0 on, in the order of `orders`."""
+    return outcomes_of(tuple(plan), size)
+
+
+def sorted_orders(plan, size):
+    """Whether each order of the numbers from 0 on comes out sorted, in the order of `orders`."""
+    return [row == list(range(size)) for row in outcomes(plan, size)]
 
 
 def first_of(plan):
@@ -94,9 +118,8 @@ class Pass:
         ]
 
 
-def stops(plan, steps):
-    """Whether a row of steps stops in a plan, and no shorter beginning of it."""
-    entry = first_of(plan)
+def stops_from(plan, entry, steps):
+    """Whether a row of steps that begins at an entry stops, and no shorter beginning of it."""
     for step in steps:
         if entry is None:
             return False
@@ -104,8 +127,17 @@ def stops(plan, steps):
     return entry is None
 
 
+def stops(plan, steps):
+    return stops_from(plan, first_of(plan), steps)
+
+
 def stopping_rows(plan, length):
     return [row for row in map("".join, product("lr", repeat=length)) if stops(plan, row)]
+
+
+def beginning_stops(plan, row):
+    """Whether a row of steps or some shorter beginning of it stops."""
+    return any(stops(plan, row[:length]) for length in range(len(row) + 1))
 
 
 def shortest_stopping_rows(plan):
@@ -145,6 +177,33 @@ def falling_number(values, place):
             least = value
             number += 1
     return number
+
+
+def passes_until_at_rest(plan, values):
+    """The number of passes after which one more changes nothing."""
+    passes = 0
+    row = list(values)
+    while passed(plan, row) != row:
+        row = passed(plan, row)
+        passes += 1
+    return passes
+
+
+def pieces_by_hand(values, split, places=None):
+    """The pieces of a list if the values at some places were pivots: for each its places, and whether it waits.
+
+    The places are those of the list that was given, so that equal values can be told apart.
+    """
+    if places is None:
+        places = list(range(len(values)))
+    if not places:
+        return []
+    if places[0] not in split:
+        return [(places, True)]
+    pivot = values[places[0]]
+    lower = [place for place in places[1:] if values[place] < pivot]
+    upper = [place for place in places[1:] if not values[place] < pivot]
+    return [*pieces_by_hand(values, split, lower), (places[:1], False), *pieces_by_hand(values, split, upper)]
 
 
 def without_doublets(values):

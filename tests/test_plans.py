@@ -4,8 +4,8 @@ import unittest
 
 from halfquick.plans import carried_out, left_open, lost, needed_pivots, pivots, strict, word_of
 from tests.model import (
-    LARGER_PLANS, LEFT_ONLY, ONCE, PLANS, RIGHT_ONLY, WHOLE, Pass, falling_number, lists_over, mirrored, orders,
-    plans_of, right_steps, shortest_stopping_rows, list_of_row, stops, without_doublets,
+    LARGER_PLANS, LEFT_ONLY, ONCE, PLANS, RIGHT_ONLY, SMALL_PLANS, WHOLE, Pass, beginning_stops, list_of_row,
+    lists_over, mirrored, orders, pieces_by_hand, plans_of, right_steps, shortest_stopping_rows, without_doublets,
 )
 
 SMALL_LISTS = lists_over(3, 4)
@@ -88,8 +88,7 @@ class WordsAndPivots(unittest.TestCase):
             for values in orders(4) + [[1, 1, 0, 0, 1]]:
                 expected = []
                 for place in range(len(values)):
-                    word = word_of(values, place)
-                    if not any(stops(plan, word[:length]) for length in range(len(word) + 1)):
+                    if not beginning_stops(plan, word_of(values, place)):
                         expected.append(place)
                 self.assertEqual(pivots(plan, values), expected)
 
@@ -135,7 +134,7 @@ class SortedLists(unittest.TestCase):
     """Point 12, as far as lists that come out sorted show it."""
 
     def test_shortest_lists_that_are_not_sorted(self):
-        for plan in plans_of(0) + plans_of(1) + plans_of(2):
+        for plan in SMALL_PLANS:
             rows = shortest_stopping_rows(plan)
             if not rows:
                 for values in LONGER_LISTS[::3]:
@@ -153,28 +152,6 @@ class SortedLists(unittest.TestCase):
 
 class Passes(unittest.TestCase):
     """Point 15, as far as lists that are carried out on show it."""
-
-    def passes_until_it_stays(self, plan, values):
-        passes = 0
-        while carried_out(plan, values, passes=passes) != carried_out(plan, values, passes=passes + 1):
-            passes += 1
-        return passes
-
-    def test_passes_until_a_list_stays(self):
-        for plan in PLANS:
-            steps = right_steps(plan)
-            along = [plan[0]] if plan else []
-            while along and along[-1][1] is not None and len(along) <= len(plan):
-                along.append(plan[along[-1][1]])
-            exactly = all(left is None for left, _ in along)
-            for values in lists_over(3, 4)[::3] + orders(4) + orders(5)[::9]:
-                least = sorted(range(len(values)), key=lambda place: (values[place], place))[:steps]
-                most = max([falling_number(values, place) for place in least], default=0)
-                found = self.passes_until_it_stays(plan, values)
-                self.assertLessEqual(found, most, (plan, values))
-                if exactly:
-                    self.assertEqual(found, most, (plan, values))
-                self.assertLessEqual(found, max(len(set(values)) - 1, 0))
 
     def test_some_passes_sort_every_list_exactly_if_no_row_of_r_stops(self):
         for plan in PLANS:
@@ -254,18 +231,13 @@ class NeededPivots(unittest.TestCase):
             if any(words[place].startswith(word) and other not in split
                    for place in split for other, word in words.items()):
                 continue
-            if self.by_hand(list(range(len(values))), values, split) == sorted(values):
+            if self.by_hand(values, split) == sorted(values):
                 if least is None or len(split) < len(least):
                     least = split
         return sorted(least)
 
-    def by_hand(self, places, values, split):
-        if not places or places[0] not in split:
-            return [values[place] for place in places]
-        pivot = values[places[0]]
-        lower = [place for place in places[1:] if values[place] < pivot]
-        upper = [place for place in places[1:] if not values[place] < pivot]
-        return self.by_hand(lower, values, split) + [pivot] + self.by_hand(upper, values, split)
+    def by_hand(self, values, split):
+        return [values[place] for places, _ in pieces_by_hand(values, split) for place in places]
 
     def test_the_first_of_equal_values_counts(self):
         self.assertEqual(needed_pivots([1, 1, 0]), [0])

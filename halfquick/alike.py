@@ -81,8 +81,8 @@ def at_end(plan):
 
 def at_rest(plan):
     """Whether a second pass changes nothing, whatever the list is."""
-    number = in_front(plan)
-    return number is None or number == right_steps(plan)
+    # If no row stops, both are None.
+    return in_front(plan) == right_steps(plan)
 
 
 def numbers_sorted(plan):

@@ -130,9 +130,10 @@ def _firsts_before_next_smaller(values):
     numbers = sorted(set(values))
     found = []
     for smaller, number in zip(numbers, numbers[1:]):
-        place = values.index(number)
-        if smaller in values[place:]:
-            found.append(place)
+        # The method `index` is not called, because a property runs this and errors store an attribute of that name.
+        first = min([place for place, value in enumerate(values) if value == number])
+        if smaller in values[first:]:
+            found.append(first)
     return found
 
 
